@@ -1,0 +1,1 @@
+"""Bitdraws: draws of told shapes from plain bits."""
