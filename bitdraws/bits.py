@@ -35,6 +35,16 @@ class Bits:
         self.place = many
 
 
+def drawn_whole(bits, draw, shape):
+    used_before = bits.used()
+    try:
+        return draw(bits, shape)
+    except NoBits:
+        # A draw that is refused takes no bit, also if the first ones for it were there.
+        bits.go_back(used_before)
+        raise NoBits("there are too few bits for this draw") from None
+
+
 def next_state(state):
     return (FACTOR * state + ADDED) % STATES
 
