@@ -44,9 +44,10 @@ def pair_of(number):
 
 THIRDS = ask(ask(told(0), told(1)), ask(told(2), AGAIN))
 MIXED = ask(told(7), ask(AGAIN, ask(told(7), told(3))))
+# The bare again comes last: a draw that does not refuse it would never end.
 WITHOUT = (
-    AGAIN, ask(AGAIN, AGAIN), ask(ask(AGAIN, AGAIN), AGAIN), ask(AGAIN, ask(AGAIN, AGAIN)),
-    full(2, AGAIN), full(5, AGAIN), full(12, AGAIN),
+    ask(AGAIN, AGAIN), ask(ask(AGAIN, AGAIN), AGAIN), ask(AGAIN, ask(AGAIN, AGAIN)),
+    full(2, AGAIN), full(5, AGAIN), full(12, AGAIN), AGAIN,
 )
 SMALL_WEIGHTS = [
     weights for many in (1, 2, 3) for weights in itertools.product(range(7), repeat=many) if sum(weights) > 0
@@ -77,7 +78,7 @@ class IsPlanTest(unittest.TestCase):
     def test_plans(self):
         for plan in (
             told(0), told(1), told(50), told(99), AGAIN, ask(told(0), told(1)), ask(AGAIN, AGAIN),
-            ask(told(3), told(3)), THIRDS, MIXED, WITHOUT[2],
+            ask(told(3), told(3)), THIRDS, MIXED, WITHOUT[1],
         ):
             self.assert_answer(True, plan)
 
