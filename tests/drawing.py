@@ -1,4 +1,4 @@
-"""What the tests of draws share: rows of bits, and what a draw does with them."""
+"""What the tests share: plans, rows of bits, and what a draw does with them."""
 
 import itertools
 import signal
@@ -9,6 +9,22 @@ from bitdraws.bits import Bits
 from bitdraws.errors import DrawError, NoBits, NoPlace
 
 MOST_SECONDS = 60
+AGAIN = ("again",)
+
+
+def told(number):
+    return ("is", number)
+
+
+def ask(zero, one):
+    return ("ask", zero, one)
+
+
+def full(many, end):
+    plan = end
+    for turn in range(many):
+        plan = ask(plan, plan)
+    return plan
 
 
 def row_of(text):

@@ -8,12 +8,9 @@ from bitdraws.bits import Bits, bits_of
 from bitdraws.errors import NoBits
 from bitdraws.evens import even, mean_even, mean_simple, rooms, simple_even
 from bitdraws.plans import mean_of, mean_pick, plan_of
+from tests.drawing import all_rows, row_of
 
 BOTH = (simple_even, even)
-
-
-def row_of(text):
-    return tuple(int(sign) for sign in text if sign != " ")
 
 
 def outcome(draw, row, many):
@@ -23,10 +20,6 @@ def outcome(draw, row, many):
         return (draw(bits, many), bits.used())
     except NoBits:
         return None
-
-
-def all_rows(long):
-    return itertools.product((0, 1), repeat=long)
 
 
 def how_often(draw, many, long):

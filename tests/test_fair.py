@@ -7,14 +7,14 @@ from collections import Counter, defaultdict
 
 from bitdraws.bits import bits_of
 from bitdraws.fair import evened, evened_on, ranked
-from tests.drawing import all_rows, row_of
+from tests.drawing import DrawTest, all_rows, row_of
 
 
 def rows_up_to(most):
     return itertools.chain.from_iterable(all_rows(long) for long in range(most + 1))
 
 
-class FairTest(unittest.TestCase):
+class FairTest(DrawTest):
     def assert_told(self, ask, due):
         for text, told in due:
             self.assertEqual(ask(row_of(text)), row_of(told), text)

@@ -9,14 +9,11 @@ from bitdraws.digits import depth_sum, digits
 from bitdraws.errors import NoBits
 from bitdraws.evens import even, mean_even
 from bitdraws.plans import coin, mean_of, mean_pick, pick, plan_of
+from tests.drawing import all_rows, row_of
 
 SMALL_WEIGHTS = [
     weights for many in (1, 2, 3) for weights in itertools.product(range(6), repeat=many) if sum(weights) > 0
 ]
-
-
-def row_of(text):
-    return tuple(int(sign) for sign in text if sign != " ")
 
 
 def outcome(row, weights):
@@ -26,10 +23,6 @@ def outcome(row, weights):
         return (pick(bits, weights), bits.used())
     except NoBits:
         return None
-
-
-def all_rows(long):
-    return itertools.product((0, 1), repeat=long)
 
 
 class PickTest(unittest.TestCase):

@@ -7,16 +7,7 @@ from fractions import Fraction
 from bitdraws.bits import Bits, bits_of
 from bitdraws.errors import NoBits, NoShares
 from bitdraws.plans import by_plan, deep, is_plan, mean_of, pick, plan_of, shares_of
-
-AGAIN = ("again",)
-
-
-def told(number):
-    return ("is", number)
-
-
-def ask(zero, one):
-    return ("ask", zero, one)
+from tests.drawing import AGAIN, ask, full, row_of, told
 
 
 def chain(many, side, last):
@@ -25,17 +16,6 @@ def chain(many, side, last):
     for turn in range(many):
         plan = ask(plan, told(1)) if side == 0 else ask(told(1), plan)
     return plan
-
-
-def full(many, end):
-    plan = end
-    for turn in range(many):
-        plan = ask(plan, plan)
-    return plan
-
-
-def row_of(text):
-    return tuple(int(sign) for sign in text if sign != " ")
 
 
 def pair_of(number):

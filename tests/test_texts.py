@@ -7,19 +7,10 @@ import unittest
 from bitdraws.errors import NoText
 from bitdraws.plans import deep, is_plan, plan_of
 from bitdraws.texts import read, written
-from tests.drawing import DrawTest
+from tests.drawing import AGAIN, DrawTest, ask, full, told
 
-AGAIN = ("again",)
 # All signs that a text may have.
 SIGNS = "".join(chr(number) for number in range(32, 127) if chr(number) != "%")
-
-
-def told(number):
-    return ("is", number)
-
-
-def ask(zero, one):
-    return ("ask", zero, one)
 
 
 def chain(many, side, last):
@@ -27,13 +18,6 @@ def chain(many, side, last):
     plan = last
     for turn in range(many):
         plan = ask(plan, told(turn)) if side == 0 else ask(told(turn), plan)
-    return plan
-
-
-def full(many, end):
-    plan = end
-    for turn in range(many):
-        plan = ask(plan, plan)
     return plan
 
 

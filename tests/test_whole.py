@@ -23,7 +23,7 @@ from bitdraws.shapes import count_orders, count_trees, grow, grown, order_under,
 from bitdraws.tables import by_table, is_table, number_by, shares_of_table, sums_of, table_of
 from bitdraws.texts import read, written
 from bitdraws.words import count_words, is_machine, is_taken, place_of_word, word, word_at
-from tests.drawing import DrawTest, begun
+from tests.drawing import AGAIN, DrawTest, begun
 
 INTERFACE = {
     "bits": {
@@ -58,7 +58,6 @@ INTERFACE = {
     },
     "texts": {"written": 1, "read": 1},
 }
-AGAIN = ("again",)
 PLAN = ("ask", ("is", 3), ("ask", AGAIN, ("is", 9)))
 NO_NUMBER = ("ask", AGAIN, ("ask", AGAIN, AGAIN))
 MACHINE = (((0, 1), (0, None)), (0, 1))
